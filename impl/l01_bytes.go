@@ -191,6 +191,17 @@ wrong:
 	return 0, 0, readError{code}
 }
 
+// readNums reads numbers that stand one behind the other, and tells the place behind the last one.
+func readNums(text string, at int64, to ...*int64) (int64, error) {
+	for _, n := range to {
+		var err error
+		if *n, at, err = readNum(text, at); err != nil {
+			return 0, err
+		}
+	}
+	return at, nil
+}
+
 func readText(text string, at int64) (string, int64, error) {
 	size, from, err := readNum(text, at)
 	if err != nil {
