@@ -202,6 +202,24 @@ func readNums(text string, at int64, to ...*int64) (int64, error) {
 	return at, nil
 }
 
+// readCounted reads a number, and so many things that stand one behind the other; what stands behind these is not asked
+// for.
+func readCounted[T any](text string, read func(text string, at int64) (T, int64, error)) ([]T, error) {
+	count, at, err := readNum(text, 0)
+	if err != nil {
+		return nil, err
+	}
+	var out []T
+	for range count {
+		var thing T
+		if thing, at, err = read(text, at); err != nil {
+			return nil, err
+		}
+		out = append(out, thing)
+	}
+	return out, nil
+}
+
 func readText(text string, at int64) (string, int64, error) {
 	size, from, err := readNum(text, at)
 	if err != nil {
