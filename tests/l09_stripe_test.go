@@ -912,8 +912,12 @@ func TestFrameReadOfSealedOnesThatAreNotRight(t *testing.T) {
 
 // arraysThatAreNotRight have each a file x, on their first drive at least, and one fault.
 func arraysThatAreNotRight() []impl.Array {
+	return brokenArrays(striped(code{2, 1}, "x", "hello"))
+}
+
+// brokenArrays takes a right array of 2 and 1, whose drives have files each, and tells it with one fault.
+func brokenArrays(right impl.Array) []impl.Array {
 	var l []impl.Array
-	right := striped(code{2, 1}, "x", "hello")
 	for _, count := range []int{0, 1, 2, 4, 15} {
 		a := copiedArray(right)
 		a.Drives = slices.Concat(a.Drives, emptyArray(code{8, 6}).Drives)[:count]

@@ -189,6 +189,11 @@ func wantWalk(blobs []impl.Blob, root string) (impl.FilesOut, []string) {
 	if len(blobs) > 400 || len(root) > 20000 {
 		return impl.FilesOut{Code: impl.ErrSize}, nil
 	}
+	return strolled(blobs, root)
+}
+
+// strolled takes however many blobs.
+func strolled(blobs []impl.Blob, root string) (impl.FilesOut, []string) {
 	s := stroll{blobs: map[string]impl.Blob{}, ahead: []stop{{key: root}}, keys: map[string]bool{}, files: map[string]string{}}
 	// The last one first, so that the first one of a key is what stays.
 	for _, b := range slices.Backward(blobs) {
